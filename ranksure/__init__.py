@@ -1,0 +1,1 @@
+"""Errands that come again and again, done by ranks."""
