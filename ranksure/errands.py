@@ -71,10 +71,21 @@ def checked_number(errands, number):
     return number
 
 
+# The three refusals in the order in which they are named.
+def check_place(errands, ranks, number):
+    checked(errands)
+    checked_ranks(errands, ranks)
+    checked_number(errands, number)
+
+
+def work_of(errand):
+    return sum([part[0] for part in errand[3]])
+
+
 def work(errands, number):
     checked(errands)
     checked_number(errands, number)
-    return sum([part[0] for part in errands[number][3]])
+    return work_of(errands[number])
 
 
 def has_tool(errand, tool):
@@ -88,7 +99,11 @@ def height(errands, ranks, tool):
     return None
 
 
+def heights_of(errands, ranks):
+    return [height(errands, ranks, tool) for tool in range(TOOLS)]
+
+
 def heights(errands, ranks):
     checked(errands)
     checked_ranks(errands, ranks)
-    return [height(errands, ranks, tool) for tool in range(TOOLS)]
+    return heights_of(errands, ranks)

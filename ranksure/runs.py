@@ -1,6 +1,6 @@
 """Comings, and the runs in which one hand does the jobs that come."""
 
-from ranksure.errands import checked, checked_ranks, heights, is_whole
+from ranksure.errands import checked, checked_ranks, heights_of, is_whole
 from ranksure.errors import NoComings
 
 MOST_COMINGS = 60
@@ -106,11 +106,9 @@ def picked(there, tops, lending):
     return min(free, key=lambda jobs: lent.get(jobs.number, jobs.rank))
 
 
-def run(errands, ranks, comings, lending):
-    checked(errands)
-    checked_ranks(errands, ranks)
-    rows = checked_comings(errands, comings)
-    tops = heights(errands, ranks)
+# The rows are not checked here, as a calendar's go on for longer than comings that are handed in.
+def run_of(errands, ranks, rows, lending):
+    tops = heights_of(errands, ranks)
     queues = [Jobs(number, errands[number][3], ranks.index(number), row) for number, row in enumerate(rows)]
     told = []
     while not all([jobs.are_done() for jobs in queues]):
@@ -124,13 +122,23 @@ def run(errands, ranks, comings, lending):
     return told
 
 
+def run(errands, ranks, comings, lending):
+    checked(errands)
+    checked_ranks(errands, ranks)
+    return run_of(errands, ranks, checked_comings(errands, comings), lending)
+
+
 def answers_of(number, row, ends):
     return [ends[(number, job)] - came for job, came in enumerate(row)]
 
 
-def answers(errands, ranks, comings, lending):
+def answers_in(rows, told):
     ends = {}
-    for time, done in enumerate(run(errands, ranks, comings, lending)):
+    for time, done in enumerate(told):
         if done is not None:
             ends[done] = time + 1
-    return [answers_of(number, row, ends) for number, row in enumerate(comings)]
+    return [answers_of(number, row, ends) for number, row in enumerate(rows)]
+
+
+def answers(errands, ranks, comings, lending):
+    return answers_in(comings, run(errands, ranks, comings, lending))

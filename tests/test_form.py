@@ -85,6 +85,29 @@ class FormTest(unittest.TestCase):
                     self.assertFalse(hasattr(builtins, node.arg), where)
                     self.assertIsNone(node.annotation, where)
 
+    def test_no_local_is_called_like_a_class_or_an_import(self):
+        for name, tree in trees():
+            taken = [node.name for node in tree.body if isinstance(node, ast.ClassDef)]
+            for node in tree.body:
+                if isinstance(node, ast.ImportFrom):
+                    taken += [one.name for one in node.names]
+            for node in ast.walk(tree):
+                if isinstance(node, ast.Name) and isinstance(node.ctx, ast.Store):
+                    self.assertNotIn(node.id, taken, (name, node.lineno))
+                if isinstance(node, ast.arg):
+                    self.assertNotIn(node.arg, taken, (name, node.lineno))
+
+    def test_no_name_is_a_method_and_a_value(self):
+        methods = []
+        values = []
+        for name, tree in trees():
+            for node in ast.walk(tree):
+                if isinstance(node, ast.ClassDef):
+                    methods += [one.name for one in node.body if isinstance(one, ast.FunctionDef)]
+                if isinstance(node, ast.Attribute) and isinstance(node.ctx, ast.Store):
+                    values.append(node.attr)
+        self.assertEqual(set(methods) & set(values), set())
+
     def test_methods(self):
         own = []
         for name, tree in trees():
