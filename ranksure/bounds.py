@@ -80,9 +80,13 @@ def longest_by_high(errands, ranks, number):
     return longest_by(errands, ranks, number, hold_by_high(errands, ranks, number))
 
 
-def is_in_time(errands, ranks, number):
+def has_room(errands, ranks, number, room):
     answer = longest_by_high(errands, ranks, number)
-    return answer is not None and answer <= errands[number][1]
+    return answer is not None and answer + room <= errands[number][1]
+
+
+def is_in_time(errands, ranks, number):
+    return has_room(errands, ranks, number, 0)
 
 
 def hold(errands, ranks, number):

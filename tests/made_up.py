@@ -127,3 +127,23 @@ def plain_stretch(errands, most=9999):
 def stretches(told):
     """How long each stretch of a run is in which the hand does jobs."""
     return [len(list(some)) for busy, some in itertools.groupby(told, lambda done: done is not None) if busy]
+
+
+def plain_answers(errands, ranks):
+    """The longest answer of each errand."""
+    return [plain_longest(errands, ranks, number, plain_hold(errands, ranks, number)) for number in range(len(errands))]
+
+
+def plain_room(errands, ranks):
+    """The least room of all errands, or None, where one has no longest answer."""
+    told = plain_answers(errands, ranks)
+    return None if None in told else min([errand[1] - answer for errand, answer in zip(errands, told)])
+
+
+def plain_fit(errands, ranks):
+    room = plain_room(errands, ranks)
+    return room is not None and room >= 0
+
+
+def all_ranks(errands):
+    return list(itertools.permutations(range(len(errands))))
